@@ -1,0 +1,1 @@
+"""Quillmoot: documents by many hands."""

@@ -1,0 +1,107 @@
+"""The forms of plain values and of ids; each function here is for any value."""
+
+
+def is_integer(value):
+    """Whether this is an integer; a truth value is none."""
+    return isinstance(value, int) and not isinstance(value, bool)
+
+
+def is_number(value):
+    """Whether this is an integer from 0 on."""
+    return is_integer(value) and value >= 0
+
+
+def is_rank(value):
+    """Whether this is an integer from 1 on, as deeds of a hand are numbered."""
+    return is_integer(value) and value >= 1
+
+
+def is_word(value):
+    """Whether this is a string of 1 to 8 letters a to z."""
+    if not isinstance(value, str) or not 1 <= len(value) <= 8:
+        return False
+    return all(["a" <= letter <= "z" for letter in value])
+
+
+def is_text(value):
+    """Whether this is a string of 1 to 8 signs, letters a to z or blanks."""
+    if not isinstance(value, str) or not 1 <= len(value) <= 8:
+        return False
+    return all(["a" <= sign <= "z" or sign == " " for sign in value])
+
+
+def is_hand(value):
+    """Whether this is a hand, the owner among them."""
+    return is_integer(value) and 1 <= value <= 4
+
+
+def is_guest(value):
+    """Whether this is a hand other than the owner."""
+    return is_integer(value) and 2 <= value <= 4
+
+
+def is_deed_id(value):
+    """Whether this can be the id of a deed."""
+    if not isinstance(value, tuple) or len(value) != 2:
+        return False
+    return is_hand(value[0]) and is_rank(value[1])
+
+
+def is_block_id(value):
+    """Whether this is a deed's id or that of the root."""
+    if not isinstance(value, tuple) or len(value) != 2:
+        return False
+    # (False, False) is equal to the root's id and is none
+    is_root = value == (0, 0) and is_integer(value[0]) and is_integer(value[1])
+    return is_root or is_deed_id(value)
+
+
+def is_sign_id(value):
+    """Whether this can be the id of a sign."""
+    if not isinstance(value, tuple) or len(value) != 3:
+        return False
+    return is_deed_id(value[:2]) and is_number(value[2])
+
+
+def is_place(value):
+    """Whether this is a sign id or None."""
+    return value is None or is_sign_id(value)
+
+
+def is_behind(value):
+    """Whether this is a block id or None."""
+    return value is None or is_block_id(value)
+
+
+def is_worth(value):
+    """Whether this is a word or None."""
+    return value is None or is_word(value)
+
+
+def is_sign_row(value):
+    """Whether this is a tuple of 1 to 8 sign ids that ascend, all unlike."""
+    if not isinstance(value, tuple) or not 1 <= len(value) <= 8:
+        return False
+    if not all([is_sign_id(sign) for sign in value]):
+        return False
+    return all([sign < following for sign, following in zip(value, value[1:])])
+
+
+FORMS = {
+    "block": is_block_id,
+    "behind": is_behind,
+    "sign": is_sign_id,
+    "place": is_place,
+    "signs": is_sign_row,
+    "word": is_word,
+    "worth": is_worth,
+    "text": is_text,
+    "rank": is_rank,
+    "guest": is_guest,
+}
+
+
+def has_form(kind, value):
+    """Whether any value is of this kind, one of those in FORMS."""
+    form = FORMS[kind]
+    return form(value)
