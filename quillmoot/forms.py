@@ -78,13 +78,16 @@ def is_worth(value):
     return value is None or is_word(value)
 
 
+def ascends(ids):
+    """Whether each of these ids is less than the one behind it."""
+    return all([one < following for one, following in zip(ids, ids[1:])])
+
+
 def is_sign_row(value):
     """Whether this is a tuple of 1 to 8 sign ids that ascend, all unlike."""
     if not isinstance(value, tuple) or not 1 <= len(value) <= 8:
         return False
-    if not all([is_sign_id(sign) for sign in value]):
-        return False
-    return all([sign < following for sign, following in zip(value, value[1:])])
+    return all([is_sign_id(sign) for sign in value]) and ascends(value)
 
 
 FORMS = {

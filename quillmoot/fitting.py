@@ -1,0 +1,134 @@
+"""Whether a deed fits, and which values are histories, worked out by a book."""
+
+from quillmoot.books import ROOT, Book
+from quillmoot.deeds import is_deed
+from quillmoot.passing import open_row_at
+from quillmoot.standing import first_settle, is_seen, last_ruling
+
+OWNER = 1
+# what can be undone
+DOINGS = ("write", "erase", "mark", "note", "block", "move", "drop")
+
+
+def is_block(book, seen, block):
+    """Whether this is a block of the part that a clock counts."""
+    return block in book.blocks and (block == ROOT or is_seen(seen, block))
+
+
+def is_block_or_none(book, seen, block):
+    """Whether this is None or a block of the part."""
+    return block is None or is_block(book, seen, block)
+
+
+def open_row_of(book, seen, sign):
+    """The open row in the part of the block of a sign; empty if there is no such sign."""
+    if sign not in book.trees.block_of:
+        return []
+    return open_row_at(book, seen, book.trees.block_of[sign])
+
+
+def fits_write(book, deed):
+    """Whether the places of a write are next to each other in the open row."""
+    _, _, seen, (_, block, left, right, _) = deed
+    if not is_block(book, seen, block):
+        return False
+    row = open_row_at(book, seen, block)
+    return any([(left, right) == pair for pair in zip([None] + row, row + [None])])
+
+
+def fits_erase(book, deed):
+    """Whether the signs stand in open rows; they may be of several blocks."""
+    _, _, seen, (_, signs) = deed
+    return all([sign in open_row_of(book, seen, sign) for sign in signs])
+
+
+def fits_span(book, deed):
+    """Whether a mark or a note goes from a sign of an open row to one of the same row that is not ahead."""
+    _, _, seen, act = deed
+    first, last = act[1], act[2]
+    row = open_row_of(book, seen, first)
+    return first in row and last in row and row.index(first) <= row.index(last)
+
+
+def fits_block(book, deed):
+    """Whether the blocks that a block names are there."""
+    _, _, seen, (_, parent, behind) = deed
+    return is_block(book, seen, parent) and is_block_or_none(book, seen, behind)
+
+
+def fits_move(book, deed):
+    """Whether the blocks that a move names are there, and it does not move the root."""
+    _, _, seen, (_, block, parent, behind) = deed
+    if block == ROOT or not is_block(book, seen, block):
+        return False
+    return is_block(book, seen, parent) and is_block_or_none(book, seen, behind)
+
+
+def fits_drop(book, deed):
+    """Whether the block is there and not the root."""
+    _, _, seen, (_, block) = deed
+    return block != ROOT and is_block(book, seen, block)
+
+
+def fits_turn(book, deed):
+    """Whether an undo or redo is of an earlier deed of this hand that can still be undone."""
+    hand, number, seen, (_, n) = deed
+    if n >= number or book.deeds[(hand, n)][3][0] not in DOINGS:
+        return False
+    return first_settle(book, (hand, n), seen) is None
+
+
+def fits_owner(book, deed):
+    """Whether the hand is the owner."""
+    return deed[0] == OWNER
+
+
+def fits_always(book, deed):
+    """A say asks nothing."""
+    return True
+
+
+RULES = {
+    "write": fits_write,
+    "erase": fits_erase,
+    "mark": fits_span,
+    "note": fits_span,
+    "block": fits_block,
+    "move": fits_move,
+    "drop": fits_drop,
+    "undo": fits_turn,
+    "redo": fits_turn,
+    "bar": fits_owner,
+    "let": fits_owner,
+    "settle": fits_owner,
+    "say": fits_always,
+}
+
+
+def fits_book(book, deed):
+    """Whether a deed fits the deeds of a book."""
+    hand, _, seen, act = deed
+    if not book.is_cut(seen):
+        return False
+    if act[0] != "say" and last_ruling(book, hand, seen) == "bar":
+        return False
+    rule = RULES[act[0]]
+    return rule(book, deed)
+
+
+def weight_of(deed):
+    """How many deeds a deed has seen: of a closed set always more than each deed of its past has."""
+    return sum(deed[2])
+
+
+def book_of(value):
+    """The book of any value, or None if it is no history."""
+    if not isinstance(value, (list, tuple)) or not all([is_deed(deed) for deed in value]):
+        return None
+    book = Book()
+    for deed in sorted(value, key=weight_of):
+        # of the deeds told twice, or unlike ones of one id, the second one is never the next of its hand
+        if deed[1] != book.clock[deed[0] - 1] + 1 or not fits_book(book, deed):
+            return None
+        book.enter(deed)
+    return book
