@@ -7,6 +7,8 @@ import unittest
 
 PACKAGE = pathlib.Path(__file__).resolve().parent.parent / "quillmoot"
 
+TAKEN = set(dir(builtins))
+
 # L8, but for print, which only __main__.py has
 BUILTINS = set("""len range enumerate zip min max sum abs sorted reversed int str bool bytes list tuple dict set frozenset
 isinstance ord repr any all divmod pow getattr hasattr setattr iter next map super property staticmethod classmethod object
@@ -22,6 +24,34 @@ INTERFACE = {
         NotAllowed Undefined""",
     "clocks.py": "is_clock joined met is_within order_of",
     "deeds.py": "is_act is_deed id_of",
+    "deedtext.py": "deed_text read_deed",
+    "histories.py": "is_history history_of clock_of time_of past_of is_cut part united fits",
+    "rights.py": "is_barred is_settled is_late is_undone counts why_not final",
+    "signs.py": "row_of shut_signs passed_signs let_go_signs open_row parent_of order_paper order_holds",
+    "rows.py": "shown_signs block_text letter_of place_of sign_at",
+    "blocks.py": "children_of parent_block is_dropped vain_moves shown_blocks",
+    "marks.py": "winner marks_at runs_of",
+}
+
+# the parameters of its functions, by what they are; those of errors are told in test_errors
+PARAMETERS = {
+    "value": "is_clock is_act is_deed is_history",
+    "a b": "joined met is_within order_of",
+    "deed": "id_of deed_text",
+    "text": "read_deed",
+    "deeds": "history_of",
+    "history": "clock_of vain_moves shown_blocks",
+    "history deed_id": "time_of past_of is_barred is_settled is_late is_undone counts why_not final",
+    "history clock": "is_cut part",
+    "history other": "united",
+    "history deed": "fits",
+    "history block": """row_of shut_signs passed_signs let_go_signs open_row shown_signs block_text children_of parent_block
+        is_dropped runs_of""",
+    "history sign": "parent_of letter_of place_of marks_at",
+    "history x y": "order_paper",
+    "history x y paper": "order_holds",
+    "history block at": "sign_at",
+    "history sign name": "winner",
 }
 
 
@@ -81,6 +111,58 @@ class Language(unittest.TestCase):
                 if hasattr(builtins, node.id):
                     self.assertIn(node.id, BUILTINS, path.name)
 
+    def test_names_are_not_those_of_builtins_or_imports(self):
+        for path in sources():
+            imported = {name.name for node in nodes(path, ast.ImportFrom) for name in node.names}
+            bound = [node.id for node in nodes(path, ast.Name) if isinstance(node.ctx, ast.Store)]
+            bound += [node.arg for node in nodes(path, ast.arg)]
+            for name in bound:
+                self.assertNotIn(name, TAKEN, path.name)
+                self.assertNotIn(name, imported, path.name)
+            for node in nodes(path, ast.FunctionDef, ast.ClassDef):
+                self.assertNotIn(node.name, TAKEN, path.name)
+                self.assertNotIn(node.name, imported, path.name)
+
+    def test_imports_name_the_file_that_defines_the_name(self):
+        for path in sources():
+            used = {node.id for node in nodes(path, ast.Name)}
+            for node in nodes(path, ast.ImportFrom):
+                if node.module.startswith("quillmoot."):
+                    body = ast.parse((PACKAGE / (node.module.partition(".")[2] + ".py")).read_text("utf-8")).body
+                    defined = {inner.name for inner in body if isinstance(inner, (ast.FunctionDef, ast.ClassDef))}
+                    defined |= {inner.targets[0].id for inner in body if isinstance(inner, ast.Assign)}
+                    for name in node.names:
+                        self.assertIn(name.name, defined, path.name)
+                        self.assertIn(name.name, used, path.name)
+
+    def test_attributes_are_no_methods_of_builtin_values(self):
+        free = {"count", "index", "title", "find", "get", "join", "lower", "upper", "split", "strip", "copy", "add"}
+        taken = {name for kind in (str, int, list, dict, set, bytes, tuple) for name in dir(kind)} - free
+        for path in sources():
+            for node in nodes(path, ast.Attribute):
+                if isinstance(node.ctx, ast.Store):
+                    self.assertNotIn(node.attr, taken, path.name)
+
+    def test_methods_and_attributes_of_one_class_have_unlike_names(self):
+        for path in sources():
+            for node in nodes(path, ast.ClassDef):
+                methods = {inner.name for inner in node.body if isinstance(inner, ast.FunctionDef)}
+                stored = {inner.attr for inner in ast.walk(node) if isinstance(inner, ast.Attribute)
+                          and isinstance(inner.ctx, ast.Store)}
+                self.assertEqual(methods & stored, set(), (path.name, node.name))
+
+    def test_no_sets_and_no_deep_calls(self):
+        # the package needs no set; and that no function calls itself, so that no call goes as deep as a row is long
+        for path in sources():
+            self.assertEqual(nodes(path, ast.Set, ast.SetComp, ast.GeneratorExp, ast.Lambda), [], path.name)
+            for node in nodes(path, ast.FunctionDef):
+                called = {inner.func.id for inner in ast.walk(node) if isinstance(inner, ast.Call)
+                          and isinstance(inner.func, ast.Name)}
+                called |= {inner.func.attr for inner in ast.walk(node) if isinstance(inner, ast.Call)
+                           and isinstance(inner.func, ast.Attribute) and isinstance(inner.func.value, ast.Name)
+                           and inner.func.value.id == "self"}
+                self.assertNotIn(node.name, called, path.name)
+
     def test_statements_and_values_outside_the_language(self):
         barred = (ast.Global, ast.AsyncFunctionDef, ast.AsyncFor, ast.AsyncWith, ast.Await, ast.Div)
         for path in sources():
@@ -106,6 +188,16 @@ class Interface(unittest.TestCase):
             defined = {node.name for node in body if isinstance(node, (ast.FunctionDef, ast.ClassDef))}
             with self.subTest(file=name):
                 self.assertLessEqual(set(words.split()), defined)
+
+    def test_parameters(self):
+        told = {name: params for params, names in PARAMETERS.items() for name in names.split()}
+        for file, words in INTERFACE.items():
+            for node in ast.parse((PACKAGE / file).read_text("utf-8")).body:
+                if isinstance(node, ast.FunctionDef) and node.name in words.split():
+                    with self.subTest(name=node.name):
+                        self.assertEqual(" ".join(param.arg for param in node.args.args), told.pop(node.name))
+                        self.assertEqual(node.args.defaults, [])
+        self.assertEqual(told, {})
 
 
 if __name__ == "__main__":
