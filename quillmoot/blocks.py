@@ -3,12 +3,12 @@
 from quillmoot.errors import NoBlock
 from quillmoot.forms import is_block_id
 from quillmoot.histories import checked
-from quillmoot.outline import outline_of
+from quillmoot.outline import whole_outline
 
 
 def checked_outline(history, block):
     """The tree of blocks of a history that has this block in it."""
-    outline = outline_of(checked(history))
+    outline = whole_outline(checked(history))
     if not is_block_id(block) or block not in outline.parents:
         raise NoBlock(block)
     return outline
@@ -34,9 +34,9 @@ def is_dropped(history, block):
 
 def vain_moves(history):
     """The ids of the moves that count and did nothing, in turn."""
-    return tuple(outline_of(checked(history)).vain)
+    return tuple(whole_outline(checked(history)).vain)
 
 
 def shown_blocks(history):
     """The blocks in preorder with their depths, without those that are dropped or below a dropped one."""
-    return tuple(outline_of(checked(history)).shown())
+    return tuple(whole_outline(checked(history)).shown())

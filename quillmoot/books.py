@@ -1,7 +1,6 @@
 """What follows from deeds that are a history, as they come one by one, each behind its past; without checks."""
 
-from quillmoot.clocks import NOUGHT, is_within
-from quillmoot.deeds import id_of
+from quillmoot.clocks import NOUGHT, is_within, joined, stepped
 from quillmoot.standing import does_count, is_seen
 from quillmoot.trees import Trees, signs_of
 
@@ -18,62 +17,90 @@ def note_names(names, signs, deed_id):
 
 
 class Book:
-    """Deeds with what their order, their rights and their signs hang on."""
+    """Deeds with what their order, their rights and their signs hang on.
+
+    A book may have begun with a snapshot. Then it has the deeds that a clock counts, its base, no more; what is left of
+    them are the seen and the time of each, their blocks, bars and lets, and what the fields that are told last have.
+    """
 
     def __init__(self):
         self.clock = NOUGHT
         self.deeds = {}
+        # what the deeds of each hand have seen; and their times, as far as they have been asked
+        self.seens = ([], [], [], [])
         self.times = {}
         self.blocks = {ROOT: True}
         self.trees = Trees()
         self.settles = []
         # the bars and lets of each hand, and the undos and redos of each deed, by number
-        self.rulings = {hand: [] for hand in HANDS}
+        self.rulings = {}
         self.turns_of = {}
         # for each sign the erases that name it, and the marks and notes that do
         self.erasing = {}
         self.marking = {}
         # for each sign that is shut the number of the settle from which on it is
         self.shut = {}
+        # of the base: the clock; the tree of blocks behind it; the marks and notes that count, in turn;
+        # the signs that its marks and notes name; and the letter of each sign, None if it took that away
+        self.base = NOUGHT
+        self.base_outline = None
+        self.base_marks = []
+        self.base_named = {}
+        self.base_letters = {}
 
     def seen_of(self, deed_id):
         """The clock that a deed has seen."""
-        return self.deeds[deed_id][2]
+        return self.seens[deed_id[0] - 1][deed_id[1] - 1]
 
     def last_seen(self, clock):
         """For each hand what the last of its deeds that a clock counts has seen; None where there is no deed."""
-        return [self.seen_of((hand, many)) if many else None for hand, many in zip(HANDS, clock)]
+        return [seens[many - 1] if many else None for seens, many in zip(self.seens, clock)]
 
     def is_cut(self, clock):
         """Whether the deeds that a clock counts are all there and closed."""
         if not is_within(clock, self.clock):
             return False
-        return all([seen is None or is_within(seen, clock) for seen in self.last_seen(clock)])
+        for seens, many in zip(self.seens, clock):
+            if many and not is_within(seens[many - 1], clock):
+                return False
+        return True
+
+    def time_behind(self, seen):
+        """The time of a deed that has seen this."""
+        return 1 + max([0] + [self.times[(hand, many)] for hand, many in zip(HANDS, seen) if many])
+
+    def turn_of(self, deed_id):
+        """By what a deed has its turn."""
+        # deeds have come behind their pasts, so this goes through them in the sequence in which they came
+        if deed_id not in self.times:
+            for other in self.deeds:
+                if other not in self.times:
+                    self.times[other] = self.time_behind(self.seen_of(other))
+        return (self.times[deed_id], deed_id)
 
     def in_turn(self, clock):
-        """The deeds that a clock counts, by time and hand."""
-        turns = sorted([(time, deed_id) for deed_id, time in self.times.items() if is_seen(clock, deed_id)])
+        """The deeds that a clock counts, but for the base, by time and hand."""
+        turns = sorted([self.turn_of(deed_id) for deed_id in self.deeds if is_seen(clock, deed_id)])
         return tuple([self.deeds[deed_id] for _, deed_id in turns])
 
     def enter(self, deed):
         """Take in a deed whose past is there."""
         hand, number, seen, act = deed
-        deed_id = id_of(deed)
-        last = [self.times[(other, many)] for other, many in zip(HANDS, seen) if many]
-        self.times[deed_id] = 1 + max([0] + last)
+        deed_id = (hand, number)
         self.deeds[deed_id] = deed
-        self.clock = self.clock[:hand - 1] + (number,) + self.clock[hand:]
+        self.seens[hand - 1].append(seen)
+        self.clock = stepped(self.clock, hand, number)
         word = act[0]
-        if word == "block":
-            self.blocks[deed_id] = True
-        elif word == "write":
+        if word == "write":
             self.trees.enter(deed)
+        elif word == "block":
+            self.blocks[deed_id] = True
         elif word == "erase":
             note_names(self.erasing, act[1], deed_id)
         elif word in ("mark", "note"):
             note_names(self.marking, act[1:3], deed_id)
         elif word in RULINGS:
-            self.rulings[act[1]].append(deed)
+            self.rulings.setdefault(act[1], []).append(deed)
         elif word in TURNS:
             self.turns_of.setdefault((hand, act[1]), []).append(deed)
         elif word == "settle":
@@ -81,16 +108,19 @@ class Book:
 
     def enter_settle(self, deed):
         """Take in a settle; what it settles counts or does not for good, so the first settle of it tells."""
+        _, number, seen, _ = deed
+        known = joined(self.base, self.settles[-1][2]) if self.settles else self.base
         self.settles.append(deed)
-        for deed_id, earlier in self.deeds.items():
-            if is_seen(deed[2], deed_id):
-                for sign in self.signs_taken(earlier):
-                    self.shut.setdefault(sign, deed[1])
+        for hand, first, last in zip(HANDS, known, seen):
+            for earlier in range(first + 1, last + 1):
+                for sign in self.signs_taken(self.deeds[(hand, earlier)]):
+                    self.shut.setdefault(sign, number)
 
     def signs_taken(self, deed):
         """The signs that a settled deed takes away for good."""
-        if deed[3][0] == "write" and not does_count(self, id_of(deed)):
+        hand, number, _, act = deed
+        if act[0] == "write" and not does_count(self, (hand, number)):
             return signs_of(deed)
-        if deed[3][0] == "erase" and does_count(self, id_of(deed)):
-            return deed[3][1]
+        if act[0] == "erase" and does_count(self, (hand, number)):
+            return act[1]
         return ()

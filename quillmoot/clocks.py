@@ -1,7 +1,5 @@
 """Clocks: how many deeds of each of the four hands."""
 
-from quillmoot.forms import is_number
-
 NOUGHT = (0, 0, 0, 0)
 
 
@@ -9,7 +7,10 @@ def is_clock(value):
     """Whether any value is a tuple of four numbers."""
     if not isinstance(value, tuple) or len(value) != 4:
         return False
-    return all([is_number(many) for many in value])
+    for many in value:
+        if not isinstance(many, int) or many < 0 or isinstance(many, bool):
+            return False
+    return True
 
 
 def joined(a, b):
@@ -24,7 +25,7 @@ def met(a, b):
 
 def is_within(a, b):
     """Whether no number of a is above that of b."""
-    return all([x <= y for x, y in zip(a, b)])
+    return a[0] <= b[0] and a[1] <= b[1] and a[2] <= b[2] and a[3] <= b[3]
 
 
 def order_of(a, b):
@@ -36,3 +37,8 @@ def order_of(a, b):
     if is_within(b, a):
         return "behind"
     return "apart"
+
+
+def stepped(clock, hand, number):
+    """The clock that counts so many deeds of this hand, and of the others as many as a clock does."""
+    return clock[:hand - 1] + (number,) + clock[hand:]

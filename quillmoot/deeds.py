@@ -1,7 +1,7 @@
 """Acts and deeds, told by their forms alone."""
 
 from quillmoot.clocks import is_clock
-from quillmoot.forms import has_form, is_hand, is_rank
+from quillmoot.forms import FORMS, is_hand, is_rank
 
 # for the word of each act the kinds of its parts, as forms names them
 PARTS = {
@@ -32,7 +32,11 @@ def is_act(value):
     kinds = PARTS[word]
     if len(value) != len(kinds) + 1:
         return False
-    return all([has_form(kind, part) for kind, part in zip(kinds, value[1:])])
+    for kind, part in zip(kinds, value[1:]):
+        form = FORMS[kind]
+        if not form(part):
+            return False
+    return True
 
 
 def is_deed(value):

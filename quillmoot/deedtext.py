@@ -2,10 +2,9 @@
 
 from quillmoot.deeds import PARTS
 from quillmoot.errors import InvalidText
-from quillmoot.forms import ascends
+from quillmoot.forms import LETTERS, LETTERS_AND_BLANK, ascends
 
 FIGURES = "0123456789"
-LETTERS = "abcdefghijklmnopqrstuvwxyz"
 MOST_FIGURES = 6
 MOST_SIGNS = 8
 
@@ -140,7 +139,7 @@ def read_worth(text, at):
 
 def read_text(text, at):
     """A text, which may have blanks in it."""
-    return read_run(text, at, LETTERS + " ")
+    return read_run(text, at, LETTERS_AND_BLANK)
 
 
 READERS = {

@@ -2,8 +2,9 @@
 
 from quillmoot.books import ROOT, Book
 from quillmoot.deeds import is_deed
-from quillmoot.passing import open_row_at
+from quillmoot.passing import passed_at
 from quillmoot.standing import first_settle, is_seen, last_ruling
+from quillmoot.trees import place_in
 
 OWNER = 1
 # what can be undone
@@ -20,11 +21,21 @@ def is_block_or_none(book, seen, block):
     return block is None or is_block(book, seen, block)
 
 
-def open_row_of(book, seen, sign):
-    """The open row in the part of the block of a sign; empty if there is no such sign."""
-    if sign not in book.trees.block_of:
-        return []
-    return open_row_at(book, seen, book.trees.block_of[sign])
+def is_open(book, seen, sign):
+    """Whether this is a sign of an open row of the part."""
+    if sign not in book.trees.block_of or not is_seen(seen, sign):
+        return False
+    return sign not in passed_at(book, seen, book.trees.block_of[sign])
+
+
+def next_open(book, seen, block, at):
+    """The first sign from this place of a row on that is in the open row of the part, or None."""
+    row = book.trees.row(block)
+    passed = passed_at(book, seen, block)
+    for sign in row[at:]:
+        if is_seen(seen, sign) and sign not in passed:
+            return sign
+    return None
 
 
 def fits_write(book, deed):
@@ -32,22 +43,28 @@ def fits_write(book, deed):
     _, _, seen, (_, block, left, right, _) = deed
     if not is_block(book, seen, block):
         return False
-    row = open_row_at(book, seen, block)
-    return any([(left, right) == pair for pair in zip([None] + row, row + [None])])
+    if left is None:
+        return next_open(book, seen, block, 0) == right
+    if not is_open(book, seen, left) or book.trees.block_of[left] != block:
+        return False
+    return next_open(book, seen, block, place_in(book.trees.row(block), left) + 1) == right
 
 
 def fits_erase(book, deed):
     """Whether the signs stand in open rows; they may be of several blocks."""
     _, _, seen, (_, signs) = deed
-    return all([sign in open_row_of(book, seen, sign) for sign in signs])
+    return all([is_open(book, seen, sign) for sign in signs])
 
 
 def fits_span(book, deed):
     """Whether a mark or a note goes from a sign of an open row to one of the same row that is not ahead."""
     _, _, seen, act = deed
     first, last = act[1], act[2]
-    row = open_row_of(book, seen, first)
-    return first in row and last in row and row.index(first) <= row.index(last)
+    block_of = book.trees.block_of
+    if not is_open(book, seen, first) or not is_open(book, seen, last) or block_of[first] != block_of[last]:
+        return False
+    row = book.trees.row(block_of[first])
+    return row.index(first) <= row.index(last)
 
 
 def fits_block(book, deed):
@@ -73,7 +90,8 @@ def fits_drop(book, deed):
 def fits_turn(book, deed):
     """Whether an undo or redo is of an earlier deed of this hand that can still be undone."""
     hand, number, seen, (_, n) = deed
-    if n >= number or book.deeds[(hand, n)][3][0] not in DOINGS:
+    if n >= number or (hand, n) not in book.deeds or book.deeds[(hand, n)][3][0] not in DOINGS:
+        # a deed of a base that is gone is settled
         return False
     return first_settle(book, (hand, n), seen) is None
 

@@ -1,4 +1,10 @@
-"""The forms of plain values and of ids; each function here is for any value."""
+"""The forms of plain values and of ids; each function here is for any value.
+
+All that gets a history asks these for each deed of it, so they call one another as little as they can.
+"""
+
+LETTERS = "abcdefghijklmnopqrstuvwxyz"
+LETTERS_AND_BLANK = "abcdefghijklmnopqrstuvwxyz "
 
 
 def is_integer(value):
@@ -8,36 +14,32 @@ def is_integer(value):
 
 def is_number(value):
     """Whether this is an integer from 0 on."""
-    return is_integer(value) and value >= 0
+    return isinstance(value, int) and value >= 0 and not isinstance(value, bool)
 
 
 def is_rank(value):
     """Whether this is an integer from 1 on, as deeds of a hand are numbered."""
-    return is_integer(value) and value >= 1
+    return isinstance(value, int) and value >= 1 and not isinstance(value, bool)
 
 
 def is_word(value):
     """Whether this is a string of 1 to 8 letters a to z."""
-    if not isinstance(value, str) or not 1 <= len(value) <= 8:
-        return False
-    return all(["a" <= letter <= "z" for letter in value])
+    return isinstance(value, str) and 1 <= len(value) <= 8 and not value.strip(LETTERS)
 
 
 def is_text(value):
     """Whether this is a string of 1 to 8 signs, letters a to z or blanks."""
-    if not isinstance(value, str) or not 1 <= len(value) <= 8:
-        return False
-    return all(["a" <= sign <= "z" or sign == " " for sign in value])
+    return isinstance(value, str) and 1 <= len(value) <= 8 and not value.strip(LETTERS_AND_BLANK)
 
 
 def is_hand(value):
     """Whether this is a hand, the owner among them."""
-    return is_integer(value) and 1 <= value <= 4
+    return isinstance(value, int) and 1 <= value <= 4 and not isinstance(value, bool)
 
 
 def is_guest(value):
     """Whether this is a hand other than the owner."""
-    return is_integer(value) and 2 <= value <= 4
+    return isinstance(value, int) and 2 <= value <= 4 and not isinstance(value, bool)
 
 
 def is_deed_id(value):
@@ -51,16 +53,18 @@ def is_block_id(value):
     """Whether this is a deed's id or that of the root."""
     if not isinstance(value, tuple) or len(value) != 2:
         return False
-    # (False, False) is equal to the root's id and is none
-    is_root = value == (0, 0) and is_integer(value[0]) and is_integer(value[1])
-    return is_root or is_deed_id(value)
+    if value == (0, 0):
+        # (False, False) is equal to the root's id and is none
+        return is_integer(value[0]) and is_integer(value[1])
+    return is_hand(value[0]) and is_rank(value[1])
 
 
 def is_sign_id(value):
     """Whether this can be the id of a sign."""
     if not isinstance(value, tuple) or len(value) != 3:
         return False
-    return is_deed_id(value[:2]) and is_number(value[2])
+    hand, number, k = value
+    return is_hand(hand) and is_rank(number) and is_number(k)
 
 
 def is_place(value):
@@ -102,9 +106,3 @@ FORMS = {
     "rank": is_rank,
     "guest": is_guest,
 }
-
-
-def has_form(kind, value):
-    """Whether any value is of this kind, one of those in FORMS."""
-    form = FORMS[kind]
-    return form(value)

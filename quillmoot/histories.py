@@ -21,6 +21,12 @@ def check_deed(book, deed_id):
         raise Undefined("deed")
 
 
+def check_cut(book, clock):
+    """Raise InvalidClock unless any value is a clock whose deeds are all there and closed."""
+    if not is_clock(clock) or not book.is_cut(clock):
+        raise InvalidClock(clock)
+
+
 def is_history(value):
     """Whether any value is a history, in any order."""
     return book_of(value) is not None
@@ -41,7 +47,7 @@ def time_of(history, deed_id):
     """The time of a deed: 1, or 1 more than the greatest one of its past."""
     book = checked(history)
     check_deed(book, deed_id)
-    return book.times[deed_id]
+    return book.turn_of(deed_id)[0]
 
 
 def past_of(history, deed_id):
@@ -60,8 +66,7 @@ def is_cut(history, clock):
 def part(history, clock):
     """The deeds that a cut counts, in turn."""
     book = checked(history)
-    if not is_clock(clock) or not book.is_cut(clock):
-        raise InvalidClock(clock)
+    check_cut(book, clock)
     return book.in_turn(clock)
 
 

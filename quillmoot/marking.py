@@ -1,17 +1,16 @@
-"""The marks on the signs of a book; without checks."""
+"""The marks on the signs of a book, and its notes; without checks."""
 
 from quillmoot.deeds import id_of
 from quillmoot.shown import shown_row, text_of
-from quillmoot.standing import does_count
 
 
-def spans_of(book, block):
-    """The mark deeds of a block that count, in turn: for each its id, its first and last place in the row, its act."""
+def spans_of(book, block, deeds):
+    """The marks, of these deeds in turn, on a block: for each its id, its first and last place in the row, its act."""
     places = {sign: at for at, sign in enumerate(book.trees.row(block))}
     spans = []
-    for deed in book.in_turn(book.clock):
+    for deed in deeds:
         act = deed[3]
-        if act[0] == "mark" and act[1] in places and does_count(book, id_of(deed)):
+        if act[0] == "mark" and act[1] in places:
             spans.append((id_of(deed), places[act[1]], places[act[2]], act))
     return spans
 
@@ -31,15 +30,33 @@ def worths_at(spans, at):
     return tuple([(name, winners[name][1]) for name in sorted(winners) if winners[name][1] is not None])
 
 
-def runs_at(book, block):
-    """The shown signs of a block, neighbours of the same marks put together."""
-    spans = spans_of(book, block)
+def runs_at(book, block, deeds):
+    """The shown signs of a block, neighbours that these deeds mark alike put together."""
+    shown = shown_row(book, block)
+    spans = spans_of(book, block, deeds)
+    if not spans:
+        return ((text_of(book, shown), ()),) if shown else ()
     places = {sign: at for at, sign in enumerate(book.trees.row(block))}
     runs = []
-    for sign in shown_row(book, block):
+    for sign in shown:
         marks = worths_at(spans, places[sign])
         if runs and runs[-1][1] == marks:
             runs[-1][0].append(sign)
         else:
             runs.append(([sign], marks))
     return tuple([(text_of(book, signs), marks) for signs, marks in runs])
+
+
+def notes_at(book, block, deeds):
+    """The notes, of these deeds in turn, on a block: for each its id, the places in the text it is about, its text."""
+    places = {sign: at for at, sign in enumerate(book.trees.row(block))}
+    shown = [places[sign] for sign in shown_row(book, block)]
+    notes = []
+    for deed in deeds:
+        act = deed[3]
+        if act[0] == "note" and act[1] in places:
+            first, last = places[act[1]], places[act[2]]
+            start = len([at for at in shown if at < first])
+            end = len([at for at in shown if at <= last])
+            notes.append((id_of(deed), start, end, act[3]))
+    return tuple(notes)

@@ -3,6 +3,7 @@
 from quillmoot.histories import checked
 from quillmoot.marking import runs_at, spans_of, winners_at, worths_at
 from quillmoot.signs import check_sign, checked_block
+from quillmoot.standing import counting_deeds
 
 
 def spans_and_place(history, sign):
@@ -10,7 +11,8 @@ def spans_and_place(history, sign):
     book = checked(history)
     check_sign(book, sign)
     block = book.trees.block_of[sign]
-    return spans_of(book, block), book.trees.row(block).index(sign)
+    spans = spans_of(book, block, counting_deeds(book, book.clock))
+    return spans, book.trees.row(block).index(sign)
 
 
 def winner(history, sign, name):
@@ -28,4 +30,5 @@ def marks_at(history, sign):
 
 def runs_of(history, block):
     """The shown signs of a block: texts with their marks, neighbours of the same marks put together."""
-    return runs_at(checked_block(history, block), block)
+    book = checked_block(history, block)
+    return runs_at(book, block, counting_deeds(book, book.clock))

@@ -2,7 +2,7 @@
 
 from quillmoot.books import ROOT
 from quillmoot.deeds import id_of
-from quillmoot.standing import does_count
+from quillmoot.standing import counting_deeds
 
 
 class Outline:
@@ -62,10 +62,24 @@ class Outline:
         return blocks
 
 
-def outline_of(book):
-    """The tree of blocks that the deeds of a book make."""
-    outline = Outline()
-    for deed in book.in_turn(book.clock):
-        if does_count(book, id_of(deed)):
-            outline.enter(deed)
+def copied(outline):
+    """Another tree of blocks like this one."""
+    other = Outline()
+    other.children = {block: list(children) for block, children in outline.children.items()}
+    other.parents = {block: parent for block, parent in outline.parents.items()}
+    other.dropped = {block: True for block in outline.dropped}
+    other.vain = list(outline.vain)
+    return other
+
+
+def outline_of(book, deeds):
+    """The tree of blocks that these deeds of a book, in turn, make behind its base."""
+    outline = Outline() if book.base_outline is None else copied(book.base_outline)
+    for deed in deeds:
+        outline.enter(deed)
     return outline
+
+
+def whole_outline(book):
+    """The tree of blocks that the deeds of a book make."""
+    return outline_of(book, counting_deeds(book, book.clock))

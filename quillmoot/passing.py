@@ -1,4 +1,7 @@
-"""Which signs go, told from a book of deeds that are a history; without checks."""
+"""Which signs go, told from a book of deeds that are a history; without checks.
+
+The clocks here count the whole base of the book, where it has one.
+"""
 
 from quillmoot.clocks import met
 from quillmoot.standing import is_seen
@@ -11,21 +14,26 @@ def row_at(book, clock, block):
 
 def common_settle(book, clock):
     """The number of the last of the owner's deeds that each hand has in the past of a deed of its own in a part."""
-    return min([0 if seen is None else seen[0] for seen in book.last_seen(clock)])
+    if 0 in clock:
+        return 0
+    return min([seen[0] for seen in book.last_seen(clock)])
+
+
+def is_named(book, clock, sign):
+    """Whether a mark or note of a part names a sign, whether that counts or not."""
+    return sign in book.base_named or any([is_seen(clock, deed_id) for deed_id in book.marking.get(sign, [])])
 
 
 def is_free(book, clock, limit, sign):
     """Whether a sign of a part is shut from a settle of no greater number on, and no mark or note there names it."""
-    if sign not in book.shut or book.shut[sign] > limit:
-        return False
-    return not any([is_seen(clock, deed_id) for deed_id in book.marking.get(sign, [])])
+    return sign in book.shut and book.shut[sign] <= limit and not is_named(book, clock, sign)
 
 
 def passed_at(book, clock, block):
     """A dict that has the signs of a block that are passed in a part as its keys."""
-    limit = common_settle(book, clock)
+    # mostly nothing is shut, or no settle is known to all, and then nothing is passed
+    limit = common_settle(book, clock) if book.shut else 0
     if limit == 0:
-        # mostly no settle is known to all, and then nothing is passed
         return {}
     row = row_at(book, clock, block)
     held = book.trees.above([sign for sign in row if not is_free(book, clock, limit, sign)])
@@ -41,7 +49,7 @@ def open_row_at(book, clock, block):
 def is_left(book, limit, common, sign):
     """Whether a sign is free, and each erase that names it is known to all.
 
-    A write that names it is known as well, as the signs below it are free, too.
+    A write that names it is known as well, as the signs below it are free, too; and so is each deed of the base.
     """
     if not is_free(book, book.clock, limit, sign):
         return False
@@ -50,9 +58,9 @@ def is_left(book, limit, common, sign):
 
 def let_go(book, block):
     """A dict that has the signs of a block that are let go as its keys."""
-    seens = book.last_seen(book.clock)
-    if None in seens:
+    if 0 in book.clock:
         return {}
+    seens = book.last_seen(book.clock)
     limit = min([common_settle(book, seen) for seen in seens])
     common = met(met(seens[0], seens[1]), met(seens[2], seens[3]))
     row = book.trees.row(block)

@@ -6,11 +6,16 @@ from quillmoot.histories import checked
 from quillmoot.passing import let_go, open_row_at, passed_at
 
 
+def check_block(book, block):
+    """Raise NoBlock unless there is this block."""
+    if not is_block_id(block) or block not in book.blocks:
+        raise NoBlock(block)
+
+
 def checked_block(history, block):
     """The book of a history that has this block."""
     book = checked(history)
-    if not is_block_id(block) or block not in book.blocks:
-        raise NoBlock(block)
+    check_block(book, block)
     return book
 
 
@@ -43,12 +48,6 @@ def can_be_ordered(trees, x, y):
     return x != y and trees.block_of[x] == trees.block_of[y]
 
 
-def paper_of(trees, x, y):
-    """The ways of two signs of one block to the lowest node above both."""
-    top = trees.lowest_above(x, y)
-    return (trees.way(x, top), trees.way(y, top))
-
-
 def order_paper(history, x, y):
     """The ways of two signs from which their order can be told."""
     book = checked(history)
@@ -56,7 +55,7 @@ def order_paper(history, x, y):
     check_sign(book, y)
     if not can_be_ordered(book.trees, x, y):
         raise Undefined("order")
-    return paper_of(book.trees, x, y)
+    return book.trees.ways(x, y)
 
 
 def tells_ahead(paper):
@@ -76,7 +75,7 @@ def order_holds(history, x, y, paper):
     book = checked(history)
     if not is_sign(book, x) or not is_sign(book, y) or not can_be_ordered(book.trees, x, y):
         return False
-    if paper != paper_of(book.trees, x, y) or not tells_ahead(paper):
+    if paper != book.trees.ways(x, y) or not tells_ahead(paper):
         return False
     # truth values are equal to numbers, and are none
     return all([is_sign_id(sign) for way in paper for sign, _ in way])

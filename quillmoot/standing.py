@@ -11,6 +11,8 @@ def is_seen(clock, deed_id):
 def first_bar(book, deed):
     """The first bar, by number, that bars this deed, or None."""
     hand, _, seen, _ = deed
+    if hand not in book.rulings:
+        return None
     freed = max([0] + [ruling[1] for ruling in book.rulings[hand] if ruling[3][0] == "let" and is_seen(seen, ruling)])
     for ruling in book.rulings[hand]:
         # a let has all that the owner did ahead of it in its past
@@ -21,8 +23,11 @@ def first_bar(book, deed):
 
 def last_ruling(book, hand, seen):
     """The word of the last bar or let of this hand that a clock counts, or None."""
-    words = [ruling[3][0] for ruling in book.rulings[hand] if is_seen(seen, ruling)]
-    return words[-1] if words else None
+    last = None
+    for ruling in book.rulings.get(hand, []):
+        if is_seen(seen, ruling):
+            last = ruling[3][0]
+    return last
 
 
 def first_settle(book, deed_id, clock):
@@ -61,3 +66,9 @@ def reason_against(book, deed_id):
 def does_count(book, deed_id):
     """Whether this deed counts."""
     return reason_against(book, deed_id) is None
+
+
+def counting_deeds(book, clock):
+    """The deeds that a clock counts and that count, in turn; of a base that is gone its marks and notes alone."""
+    turns = book.in_turn(clock)
+    return book.base_marks + [deed for deed in turns if does_count(book, id_of(deed))]

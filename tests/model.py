@@ -1,4 +1,4 @@
-"""The document's words on histories, signs, blocks and marks done plainly and slowly, without a look at the package.
+"""The document's words on histories, signs, blocks, marks and documents done plainly and slowly, without a look at the package.
 
 Everything is told of a set of deeds, as a dict from ids to deeds. What is told of a part is worked out from this part
 alone, so that nothing here leans on what the document says of parts and greater histories.
@@ -380,6 +380,66 @@ class Model:
             else:
                 runs.append((letter, marks))
         return tuple(runs)
+
+    # sections 9 and 10: notes, documents, what changed
+
+    def notes(self, block):
+        row = self.row(block)
+        shown = self.shown(block)
+        notes = []
+        for deed in self.of_word("note"):
+            _, first, last, text = deed[3]
+            if self.counts(deed) and first in row:
+                start = sum(1 for sign in shown if row.index(sign) < row.index(first))
+                end = sum(1 for sign in shown if row.index(sign) < row.index(last)) + self.is_shown(last)
+                notes.append((deed[:2], start, end, text))
+        return tuple(notes)
+
+    def document(self):
+        if "document" not in self.memo:
+            self.memo["document"] = tuple(
+                (block, depth, self.runs(block), self.notes(block)) for block, depth in self.shown_blocks())
+        return self.memo["document"]
+
+    def document_text(self):
+        return "\n".join(2 * depth * " " + self.text(block) for block, depth in self.shown_blocks())
+
+    def cuts(self):
+        turns = self.turns()
+        return tuple(Model(turns[:many]).clock() for many in range(len(turns) + 1))
+
+    def changes(self, clock, other):
+        one, two = self.part(clock), self.part(other)
+        row = [sign for block in self.blocks() for sign in self.row(block)]
+
+        def shown(model):
+            return [sign for sign in row if sign in model.signs() and model.is_shown(sign)]
+
+        def home(model, block):
+            return model.outline_rows()[0][block], dict(model.shown_blocks())[block]
+
+        here = [block for block in self.blocks() if block in dict(one.shown_blocks()) and block in dict(two.shown_blocks())]
+        return (tuple(sign for sign in shown(two) if sign not in shown(one)),
+                tuple(sign for sign in shown(one) if sign not in shown(two)),
+                tuple(block for block in here if home(one, block) != home(two, block)))
+
+    def typed(self, block):
+        return tuple(sign[0] for sign in self.shown(block))
+
+    # section 13: the base
+
+    def base(self):
+        """The deeds of the base, in turn."""
+        turns = self.turns()
+        for many in range(len(turns), 0, -1):
+            first = turns[:many]
+            if all(any(all(self.in_past(deed, last) and self.past(last).is_settled(deed) for deed in first)
+                       for last in self.deeds.values() if last[0] == hand) for hand in (1, 2, 3, 4)):
+                return first
+        return []
+
+    def kept_signs(self):
+        return tuple((block, len(self.row(block)) - len(self.let_go(block))) for block in self.blocks())
 
 
 def is_history(deeds):

@@ -31,6 +31,9 @@ INTERFACE = {
     "rows.py": "shown_signs block_text letter_of place_of sign_at",
     "blocks.py": "children_of parent_block is_dropped vain_moves shown_blocks",
     "marks.py": "winner marks_at runs_of",
+    "notes.py": "notes_of",
+    "documents.py": "document document_text document_at cuts_of changes who_typed",
+    "desks.py": "Desk",
 }
 
 # the parameters of its functions, by what they are; those of errors are told in test_errors
@@ -40,18 +43,37 @@ PARAMETERS = {
     "deed": "id_of deed_text",
     "text": "read_deed",
     "deeds": "history_of",
-    "history": "clock_of vain_moves shown_blocks",
+    "history": "clock_of vain_moves shown_blocks document document_text cuts_of",
     "history deed_id": "time_of past_of is_barred is_settled is_late is_undone counts why_not final",
-    "history clock": "is_cut part",
+    "history clock": "is_cut part document_at",
+    "history clock other": "changes",
     "history other": "united",
     "history deed": "fits",
     "history block": """row_of shut_signs passed_signs let_go_signs open_row shown_signs block_text children_of parent_block
-        is_dropped runs_of""",
+        is_dropped runs_of notes_of who_typed""",
     "history sign": "parent_of letter_of place_of marks_at",
     "history x y": "order_paper",
     "history x y paper": "order_holds",
     "history block at": "sign_at",
     "history sign name": "winner",
+}
+
+# the methods of its classes, by their parameters
+METHODS = {
+    ("desks.py", "Desk"): {
+        "hand": "__init__ bar let",
+        "": "clock document deeds waiting settle say",
+        "block": "text drop",
+        "deed": "take",
+        "clock": "lacking",
+        "block at text": "write",
+        "block at many": "erase",
+        "block at many name worth": "mark",
+        "block at many text": "note",
+        "parent behind": "block",
+        "block parent behind": "move",
+        "n": "undo redo",
+    },
 }
 
 
@@ -198,6 +220,17 @@ class Interface(unittest.TestCase):
                         self.assertEqual(" ".join(param.arg for param in node.args.args), told.pop(node.name))
                         self.assertEqual(node.args.defaults, [])
         self.assertEqual(told, {})
+
+    def test_methods_stand_in_the_class_itself(self):
+        for (file, name), methods in METHODS.items():
+            body = ast.parse((PACKAGE / file).read_text("utf-8")).body
+            found = [node for node in body if isinstance(node, ast.ClassDef) and node.name == name]
+            own = {node.name: node.args for node in found[0].body if isinstance(node, ast.FunctionDef)}
+            for params, names in methods.items():
+                for method in names.split():
+                    with self.subTest(name=name, method=method):
+                        self.assertEqual([param.arg for param in own[method].args], ["self"] + params.split())
+                        self.assertEqual(own[method].defaults, [])
 
 
 if __name__ == "__main__":

@@ -4,6 +4,7 @@ import random
 import unittest
 
 from quillmoot.blocks import children_of, is_dropped, shown_blocks, vain_moves
+from quillmoot.documents import document
 from quillmoot.histories import is_history
 from quillmoot.marks import runs_of
 from quillmoot.rights import is_undone
@@ -30,6 +31,7 @@ class Undone(unittest.TestCase):
         if not is_history(other):
             return False
         blocks = [block for block, _ in shown_blocks(history)]
+        self.assertEqual(document(other), document(history))
         self.assertEqual(shown_blocks(other), shown_blocks(history))
         for block in blocks:
             self.assertEqual(runs_of(other, block), runs_of(history, block))
@@ -41,23 +43,59 @@ class Undone(unittest.TestCase):
         return True
 
     def test_each_word(self):
-        table = Table()
-        table.write(1, ROOT, 0, "abcd")
-        one, two = table.do(1, "block", ROOT, None), table.do(1, "block", ROOT, None)
-        table.meet()
-        acts = (("write", ROOT, (1, 1, 1), (1, 1, 2), "xy"), ("erase", ((1, 1, 1),)), ("mark", (1, 1, 0), (1, 1, 2), "bold", "on"),
-                ("note", (1, 1, 0), (1, 1, 2), "so"), ("block", one, None), ("move", one, two, None), ("drop", one))
-        before = shown_blocks(table.history()), runs_of(table.history(), ROOT)
+        table = self.told_table()
+        _, _, acts = self.told_acts()
+        before = document(table.history())
         for act in acts:
             own = table.do(2, *act)
             table.do(2, "undo", own[1])
-            self.assertEqual((shown_blocks(table.history()), runs_of(table.history(), ROOT)), before)
+            self.assertEqual(document(table.history()), before)
             self.assertTrue(self.assert_as_if_nothing(table.history(), own))
             table.do(2, "redo", own[1])
-            if act[0] != "note":
-                self.assertNotEqual((shown_blocks(table.history()), runs_of(table.history(), ROOT)), before)
+            self.assertNotEqual(document(table.history()), before)
             table.do(2, "undo", own[1])
             self.assertTrue(self.assert_as_if_nothing(table.history(), own))
+
+    def test_each_word_with_deeds_of_others_behind(self):
+        one, two, acts = self.told_acts()
+        # what others do that know of it, but name no sign or block that it makes
+        others = (("write", ROOT, (1, 1, 0), (1, 1, 1), "z"), ("erase", ((1, 1, 1), (1, 1, 2))), ("mark", (1, 1, 1), (1, 1, 3), "bold", None),
+                  ("note", (1, 1, 1), (1, 1, 3), "hm"), ("block", one, None), ("move", two, one, None), ("drop", two), ("settle",))
+        for act in acts:
+            for behind in others:
+                for turns in (("undo",), ("undo", "redo", "undo"), ("redo", "undo", "undo")):
+                    table = self.told_table()
+                    own = table.do(2, *act)
+                    table.meet()
+                    table.do(1 if behind == ("settle",) else 3, *behind)
+                    for turn in turns:
+                        table.do(2, turn, own[1])
+                    table.meet(2, 4)
+                    table.do(4, "write", ROOT, None, (1, 1, 0), "q")
+                    with self.subTest(act=act, behind=behind, turns=turns):
+                        # a settle that did not know of the undos makes them late
+                        self.assertIs(is_undone(table.history(), own), behind != ("settle",))
+                        if is_undone(table.history(), own):
+                            self.assertTrue(self.assert_as_if_nothing(table.history(), own))
+                        # and a redo that all knew of brings it back
+                        table.do(2, "redo", own[1])
+                        self.assertIs(is_undone(table.history(), own), False)
+
+    def told_table(self):
+        """One has typed abcd and made two blocks; all know it."""
+        table = Table()
+        table.write(1, ROOT, 0, "abcd")
+        table.do(1, "block", ROOT, None)
+        table.do(1, "block", ROOT, None)
+        table.meet()
+        return table
+
+    def told_acts(self):
+        """These blocks, and an act of each word that can be undone."""
+        one, two = (1, 2), (1, 3)
+        return one, two, (
+            ("write", ROOT, (1, 1, 1), (1, 1, 2), "xy"), ("erase", ((1, 1, 1),)), ("mark", (1, 1, 0), (1, 1, 2), "bold", "on"),
+            ("note", (1, 1, 0), (1, 1, 2), "so"), ("block", one, None), ("move", one, two, None), ("drop", one))
 
     def test_other_signs_stand_and_are_shown(self):
         table = Table()
