@@ -83,13 +83,26 @@ class Book:
         turns = sorted([self.turn_of(deed_id) for deed_id in self.deeds if is_seen(clock, deed_id)])
         return tuple([self.deeds[deed_id] for _, deed_id in turns])
 
-    def enter(self, deed):
-        """Take in a deed whose past is there."""
-        hand, number, seen, act = deed
-        deed_id = (hand, number)
-        self.deeds[deed_id] = deed
+    def enter_gone(self, hand, seen):
+        """Take in that a deed of the base was there; these come in turn, ahead of all others."""
+        number = seen[hand - 1] + 1
+        self.times[(hand, number)] = self.time_behind(seen)
         self.seens[hand - 1].append(seen)
         self.clock = stepped(self.clock, hand, number)
+        self.base = self.clock
+
+    def enter_alone(self, deed):
+        """Take in a deed whose past is there, but for what its act does."""
+        hand, number, seen, _ = deed
+        self.deeds[(hand, number)] = deed
+        self.seens[hand - 1].append(seen)
+        self.clock = stepped(self.clock, hand, number)
+
+    def enter(self, deed):
+        """Take in a deed whose past is there."""
+        self.enter_alone(deed)
+        hand, number, _, act = deed
+        deed_id = (hand, number)
         word = act[0]
         if word == "write":
             self.trees.enter(deed)

@@ -4,6 +4,7 @@ from quillmoot.deeds import PARTS
 from quillmoot.errors import InvalidText
 from quillmoot.forms import LETTERS, LETTERS_AND_BLANK, ascends
 
+NOTHING = "-"
 FIGURES = "0123456789"
 MOST_FIGURES = 6
 MOST_SIGNS = 8
@@ -14,10 +15,20 @@ def dotted(numbers):
     return ".".join([str(number) for number in numbers])
 
 
+def word_of(numbers):
+    """A clock or an id as a word; None where there is none."""
+    return NOTHING if numbers is None else dotted(numbers)
+
+
+def numbers_of(word):
+    """The clock or id that a right word tells, or None."""
+    return None if word == NOTHING else tuple([int(figures) for figures in word.split(".")])
+
+
 def part_text(kind, value):
     """The text of one part of an act."""
     if value is None:
-        return "-"
+        return NOTHING
     if kind == "signs":
         return "+".join([dotted(sign) for sign in value])
     if isinstance(value, tuple):
@@ -25,13 +36,18 @@ def part_text(kind, value):
     return str(value)
 
 
-def deed_text(deed):
-    """The text of a deed."""
-    hand, number, seen, act = deed
-    words = [dotted((hand, number)), dotted(seen), act[0]]
+def act_text(act):
+    """The text of an act."""
+    words = [act[0]]
     for kind, value in zip(PARTS[act[0]], act[1:]):
         words.append(part_text(kind, value))
     return " ".join(words)
+
+
+def deed_text(deed):
+    """The text of a deed."""
+    hand, number, seen, act = deed
+    return " ".join([dotted((hand, number)), dotted(seen), act_text(act)])
 
 
 # Each reader below is given a text and where to begin, and returns what it read and where that ends. It raises at the
@@ -95,14 +111,14 @@ def read_sign(text, at):
 
 def read_place(text, at):
     """The id of a sign, or None."""
-    if is_one_of(text, at, "-"):
+    if is_one_of(text, at, NOTHING):
         return None, at + 1
     return read_sign(text, at)
 
 
 def read_behind(text, at):
     """The id of a block, or None."""
-    if is_one_of(text, at, "-"):
+    if is_one_of(text, at, NOTHING):
         return None, at + 1
     return read_block(text, at)
 
@@ -132,7 +148,7 @@ def read_word(text, at):
 
 def read_worth(text, at):
     """A word, or None."""
-    if is_one_of(text, at, "-"):
+    if is_one_of(text, at, NOTHING):
         return None, at + 1
     return read_word(text, at)
 

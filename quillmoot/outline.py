@@ -50,16 +50,30 @@ class Outline:
         neighbours.insert(at, block)
         self.parents[block] = home
 
-    def shown(self):
-        """The blocks in preorder with their depths, without those that are dropped or below a dropped one."""
+    def hang(self, block, parent):
+        """Make a block the last child of a parent."""
+        self.children[block] = []
+        self.children[parent].append(block)
+        self.parents[block] = parent
+
+    def with_depths(self, left_out):
+        """The blocks in preorder with their depths, without those that are keys of left_out or below one of them."""
         blocks = []
         waiting = [(ROOT, 0)]
         while waiting:
             block, depth = waiting.pop()
-            if block not in self.dropped:
+            if block not in left_out:
                 blocks.append((block, depth))
                 waiting.extend([(child, depth + 1) for child in reversed(self.children[block])])
         return blocks
+
+    def shown(self):
+        """The blocks in preorder with their depths, without those that are dropped or below a dropped one."""
+        return self.with_depths(self.dropped)
+
+    def preorder(self):
+        """All blocks of the tree, each ahead of those below it."""
+        return [block for block, _ in self.with_depths({})]
 
 
 def copied(outline):

@@ -32,7 +32,8 @@ class Trees:
     def enter(self, deed):
         """Hang the signs of a write deed into the tree of its block."""
         hand, number, _, (_, block, left, right, text) = deed
-        if right is not None and (left is None or self.stands_above(left, right)):
+        # a right place that was let go ahead of this has all below it let go, so this hangs at its left one
+        if right in self.block_of and (left is None or self.stands_above(left, right)):
             self.hang((hand, number), block, right, "left", len(text))
         else:
             self.hang((hand, number), block, left, "right", len(text))

@@ -177,11 +177,59 @@ def random_going(dice, most):
     return table
 
 
+def random_stray(dice, most):
+    """A table at which some hands do things early that the owner's first settles do not know of; then all hear of all."""
+    table = Table()
+
+    def do(hand, *act):
+        if len(table.deeds) < most and table.known(hand).fits(table.deed(hand, *act)):
+            table.do(hand, *act)
+
+    def some_act(hand, most_signs):
+        act = random_act(dice, table.known(hand), hand, table.clocks[hand][hand - 1] + 1, most_signs)
+        if act is not None and act[0] not in ("bar", "let", "settle", "move", "drop", "block"):
+            do(hand, *act)
+
+    def take_away(hand):
+        row = table.known(hand).open_row(ROOT)
+        first = dice.randrange(len(row)) if row else 0
+        if row and dice.random() < 0.7:
+            do(hand, "erase", tuple(sorted(row[first:first + dice.randint(1, 8)])))
+        elif table.clocks[hand][hand - 1]:
+            do(hand, "undo", dice.randint(1, table.clocks[hand][hand - 1]))
+
+    for hand in dice.sample((1, 2, 3, 4), dice.randint(1, 3)):
+        do(hand, "write", ROOT, None, None, random_text(dice, 2))
+    table.meet()
+    strays = dice.sample((2, 3, 4), dice.randint(0, 2))
+    others = [hand for hand in (1, 2, 3, 4) if hand not in strays]
+    for _ in range(dice.randint(1, 4)):
+        some_act(dice.choice((1, 2, 3, 4)), 2)
+    table.meet(*others)
+    for hand in others:
+        take_away(hand)
+    table.meet(*others)
+    take_away(1)
+    do(1, "settle")
+    for _ in range(4):
+        table.meet()
+        for hand in (1, 2, 3, 4):
+            if dice.random() < 0.1:
+                some_act(hand, 2)
+            elif hand == 1 and dice.random() < 0.2:
+                do(hand, "settle")
+            else:
+                do(hand, "say")
+    return table
+
+
 def random_history(dice, most, **told):
     """A history by dice, mixed up."""
     kind = dice.random()
-    if kind < 0.25 and not told:
+    if kind < 0.2 and not told:
         deeds = random_settling(dice, most).deeds
+    elif kind < 0.35 and not told:
+        deeds = random_stray(dice, most).deeds
     elif kind < 0.6 and not told:
         deeds = random_going(dice, most).deeds
     else:

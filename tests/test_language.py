@@ -34,6 +34,10 @@ INTERFACE = {
     "notes.py": "notes_of",
     "documents.py": "document document_text document_at cuts_of changes who_typed",
     "desks.py": "Desk",
+    "nets.py": "Net",
+    "snapshots.py": "base_clock rest_of snapshot desk_of desk_snapshot kept_signs",
+    "seals.py": "chain_of seal_of first_apart asked_places",
+    "logs.py": "Log replayed",
 }
 
 # the parameters of its functions, by what they are; those of errors are told in test_errors
@@ -42,8 +46,13 @@ PARAMETERS = {
     "a b": "joined met is_within order_of",
     "deed": "id_of deed_text",
     "text": "read_deed",
+    "text hand": "desk_of",
     "deeds": "history_of",
-    "history": "clock_of vain_moves shown_blocks document document_text cuts_of",
+    "desk": "desk_snapshot kept_signs",
+    "chain other": "first_apart asked_places",
+    "lines": "replayed",
+    "history": "clock_of vain_moves shown_blocks document document_text cuts_of base_clock rest_of snapshot seal_of",
+    "history hand": "chain_of",
     "history deed_id": "time_of past_of is_barred is_settled is_late is_undone counts why_not final",
     "history clock": "is_cut part document_at",
     "history clock other": "changes",
@@ -74,6 +83,16 @@ METHODS = {
         "block parent behind": "move",
         "n": "undo redo",
     },
+    ("nets.py", "Net"): {
+        "hand": "desk",
+        "desk": "seat",
+        "deed": "post",
+        "": "__init__ messages unite is_calm",
+        "k": "deliver double lose put_off",
+        "parts": "divide",
+        "a b": "meet",
+    },
+    ("logs.py", "Log"): {"": "__init__", "line": "run"},
 }
 
 
