@@ -102,8 +102,8 @@ def kept_text(book):
     kept = {}
     for row in kept_rows(book).values():
         for sign in row:
+            # in a row the signs of a deed stand in their order
             kept.setdefault(sign[:2], []).append(sign)
-    kept = {write: sorted(kept[write]) for write in kept}
     lines = [seen_line(book, base)] + block_lines(book, base) + write_lines(book, base, kept)
     return "\n".join(lines + kept_lines(book, base) + rest_lines(book, base, kept))
 

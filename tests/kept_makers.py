@@ -98,6 +98,19 @@ def rulings():
     return table
 
 
+def barred():
+    """Hands 2 and 3 are barred in the base, and hand 2 is let in it."""
+    table = Table()
+    table.write(1, ROOT, 0, "abc")
+    table.do(1, "bar", 2)
+    table.do(1, "bar", 3)
+    table.do(1, "let", 2)
+    table.meet()
+    table.do(1, "settle")
+    table.round()
+    return table
+
+
 def stray(*acts):
     """Hands 1 to 3 do these acts and settle them, without a word of what hand 4 said first; then all hear of all."""
     table = Table()
@@ -140,4 +153,5 @@ def right_place_gone():
     return settled(table)
 
 
-KEPT = (gone_in_base, passed_in_base, shut_in_base, late_turns, rulings, gone_in_rest, partly_gone_in_rest, right_place_gone)
+KEPT = (gone_in_base, passed_in_base, shut_in_base, late_turns, rulings, gone_in_rest, partly_gone_in_rest, right_place_gone,
+        barred)

@@ -116,7 +116,7 @@ class Which(Bases):
         self.assertEqual(base_clock(stray((3, "say"), (2, "say")).history()), (0, 0, 1, 0))
 
     def test_told_by_hand(self):
-        self.assertEqual([sum(base_clock(maker().history())) for maker in KEPT], [6, 6, 6, 3, 3, 1, 1, 2])
+        self.assertEqual([sum(base_clock(maker().history())) for maker in KEPT], [6, 6, 6, 3, 3, 1, 1, 2, 4])
         self.assertEqual(base_clock(rulings().history()), (1, 1, 1, 0))
 
 

@@ -9,7 +9,7 @@ from quillmoot.histories import clock_of, history_of, part
 from quillmoot.signs import let_go_signs, passed_signs
 from quillmoot.snapshots import base_clock, desk_of, desk_snapshot, kept_signs, snapshot
 from tests.desk_makers import random_doing, told
-from tests.kept_makers import KEPT, desk_with, gone_in_base, late_turns, rulings, shut_in_base
+from tests.kept_makers import KEPT, barred, desk_with, gone_in_base, late_turns, rulings, shut_in_base
 from tests.makers import NOUGHT, Table, random_going, random_settling, random_stray, random_table
 from tests.model import Model
 
@@ -88,8 +88,8 @@ class Told(unittest.TestCase):
         """The makers make what this file is about."""
         gone = [len(let_go_signs(maker().history(), ROOT)) for maker in KEPT]
         passed = [len(passed_signs(maker().history(), ROOT)) for maker in KEPT]
-        self.assertEqual(gone, [2, 0, 1, 0, 0, 3, 2, 1])
-        self.assertEqual(passed, [2, 2, 1, 0, 3, 3, 2, 1])
+        self.assertEqual(gone, [2, 0, 1, 0, 0, 3, 2, 1, 0])
+        self.assertEqual(passed, [2, 2, 1, 0, 3, 3, 2, 1, 0])
         for maker in KEPT:
             self.assertNotEqual(base_clock(maker().history()), NOUGHT)
 
@@ -131,6 +131,15 @@ class Told(unittest.TestCase):
             pair.call("take", (1, 7, (6, 2, 2, 3), ("let", 2)))
             pair.call("take", (1, 8, (7, 2, 2, 3), ("bar", 4)))
             pair.call("write", ROOT, 0, "r")
+            pair.look()
+        for hand, answer in ((1, "returns"), (2, "returns"), (3, "NotAllowed"), (4, "returns")):
+            pair = Pair(self, barred().history(), hand)
+            pair.begin_again()
+            self.assertEqual(pair.call("write", ROOT, 0, "q")[0], answer)
+            clock = pair.whole.clock()
+            pair.call("take", (3, clock[2] + 1, clock, ("drop", ROOT)))
+            pair.call("take", (1, clock[0] + 1, clock, ("let", 3)))
+            self.assertEqual(pair.call("write", ROOT, 0, "q")[0], "returns")
             pair.look()
 
     def test_what_does_not_fit(self):

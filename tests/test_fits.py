@@ -183,6 +183,26 @@ class Writes(Fits):
         self.assert_misfit(3, "write", ROOT, b, None, "q", clock=(3, 2, 1, 1))
         self.assert_fits(3, "erase", (c,), clock=(5, 2, 1, 1))
 
+    def test_signs_that_are_passed_by_what_the_deed_knows(self):
+        # four knows that d is shut, but not that three knows, too, and types behind it
+        table = self.table = Table()
+        table.write(1, ROOT, 0, "abcd")
+        table.do(1, "erase", ((1, 1, 3),))
+        table.do(1, "settle")
+        table.meet()
+        table.do(2, "say")
+        table.do(4, "say")
+        table.write(4, ROOT, 4, "x")
+        table.do(3, "say")
+        table.do(1, "say")
+        passed, opened = (4, 1, 1, 1), (4, 1, 1, 2)
+        for clock, told in ((passed, False), (opened, True)):
+            for act in (("erase", ((1, 1, 3),)), ("mark", (1, 1, 3), (1, 1, 3), "bold", "on"), ("note", (1, 1, 0), (1, 1, 3), "so"),
+                        ("write", ROOT, (1, 1, 2), (1, 1, 3), "q")):
+                self.assert_told(1, act, clock, told)
+            self.assert_told(1, ("write", ROOT, (1, 1, 2), None, "q"), clock, not told)
+        self.assert_fits(1, "write", ROOT, (4, 2, 0), None, "q", clock=opened)
+
 
 class ErasesMarksNotes(Fits):
     def test_signs_of_several_blocks(self):

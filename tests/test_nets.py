@@ -334,8 +334,10 @@ class Meetings(Nets):
         self.net.seat(desk_of(desk_snapshot(whole), 3))
         self.assert_refused(Undefined, "what", "deeds", self.net.meet, 1, 3)
         self.assert_refused(Undefined, "what", "deeds", self.net.meet, 3, 1)
-        # asked ahead: nothing is taken of what could be told
-        self.desks[1].say()
+        # asked ahead: nothing is taken of what could be told, and would wait
+        for _ in range(6):
+            self.desks[1].say()
+        self.assertEqual(desk_of(desk_snapshot(whole), 3).take(self.desks[1].deeds()[5]), ())
         self.assert_refused(Undefined, "what", "deeds", self.net.meet, 3, 1)
         self.assert_refused(Undefined, "what", "deeds", self.net.meet, 1, 3)
         self.assertIs(self.net.meet(3, 3), True)

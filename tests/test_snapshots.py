@@ -185,7 +185,7 @@ class Begun(Texts):
 
     def test_told_by_hand(self):
         desks = [desk_of(snapshot(maker().history()), 1) for maker in KEPT]
-        self.assertEqual([desk.text(ROOT) for desk in desks], ["abcd", "abcd", "xyg", "xybc", "abc", "", "a", "acd"])
+        self.assertEqual([desk.text(ROOT) for desk in desks], ["abcd", "abcd", "xyg", "xybc", "abc", "", "a", "acd", "abc"])
         self.assertEqual(desks[2].document(), ((ROOT, 0, (("xyg", ()),), ()),))
 
     def test_blocks(self):
@@ -348,7 +348,7 @@ class Spoilt(Texts):
 
 class Kept(Texts):
     def test_told_by_hand(self):
-        for maker, many in zip(KEPT, (4, 6, 9, 6, 6, 0, 1, 3)):
+        for maker, many in zip(KEPT, (4, 6, 9, 6, 6, 0, 1, 3, 3)):
             history = maker().history()
             for desk in (desk_with(2, history), desk_of(snapshot(history), 2)):
                 self.assertEqual(kept_signs(desk=desk), ((ROOT, many),))
