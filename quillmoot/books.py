@@ -1,7 +1,7 @@
 """What follows from deeds that are a history, as they come one by one, each behind its past; without checks."""
 
 from quillmoot.clocks import NOUGHT, is_within, joined, stepped
-from quillmoot.standing import does_count, is_seen
+from quillmoot.standing import does_count
 from quillmoot.trees import Trees, signs_of
 
 ROOT = (0, 0)
@@ -26,9 +26,10 @@ class Book:
     def __init__(self):
         self.clock = NOUGHT
         self.deeds = {}
-        # what the deeds of each hand have seen; and their times, as far as they have been asked
-        self.seens = ([], [], [], [])
-        self.times = {}
+        # what the deeds of each hand have seen, and their times as far as they have been asked, both by number;
+        # ahead of the first one stands what holds where there is none
+        self.seens = ([NOUGHT], [NOUGHT], [NOUGHT], [NOUGHT])
+        self.times = ([0], [0], [0], [0])
         self.blocks = {ROOT: True}
         self.trees = Trees()
         self.settles = []
@@ -50,43 +51,48 @@ class Book:
 
     def seen_of(self, deed_id):
         """The clock that a deed has seen."""
-        return self.seens[deed_id[0] - 1][deed_id[1] - 1]
+        return self.seens[deed_id[0] - 1][deed_id[1]]
 
     def last_seen(self, clock):
-        """For each hand what the last of its deeds that a clock counts has seen; None where there is no deed."""
-        return [seens[many - 1] if many else None for seens, many in zip(self.seens, clock)]
+        """For each hand what the last of its deeds that a clock counts has seen."""
+        return [seens[many] for seens, many in zip(self.seens, clock)]
 
     def is_cut(self, clock):
         """Whether the deeds that a clock counts are all there and closed."""
-        if not is_within(clock, self.clock):
-            return False
         for seens, many in zip(self.seens, clock):
-            if many and not is_within(seens[many - 1], clock):
+            if many and (many >= len(seens) or not is_within(seens[many], clock)):
                 return False
         return True
 
     def time_behind(self, seen):
         """The time of a deed that has seen this."""
-        return 1 + max([0] + [self.times[(hand, many)] for hand, many in zip(HANDS, seen) if many])
+        one, two, three, four = self.times
+        return 1 + max(one[seen[0]], two[seen[1]], three[seen[2]], four[seen[3]])
+
+    def tell_times(self):
+        """Work out the times that have not been asked yet."""
+        # deeds have come behind their pasts, so this goes through them in the sequence in which they came
+        for hand, number in self.deeds:
+            if number == len(self.times[hand - 1]):
+                self.times[hand - 1].append(self.time_behind(self.seens[hand - 1][number]))
 
     def turn_of(self, deed_id):
-        """By what a deed has its turn."""
-        # deeds have come behind their pasts, so this goes through them in the sequence in which they came
-        if deed_id not in self.times:
-            for other in self.deeds:
-                if other not in self.times:
-                    self.times[other] = self.time_behind(self.seen_of(other))
-        return (self.times[deed_id], deed_id)
+        """By what a deed has its turn: its time, its hand, its number."""
+        self.tell_times()
+        hand, number = deed_id
+        return (self.times[hand - 1][number], hand, number)
 
     def in_turn(self, clock):
         """The deeds that a clock counts, but for the base, by time and hand."""
-        turns = sorted([self.turn_of(deed_id) for deed_id in self.deeds if is_seen(clock, deed_id)])
-        return tuple([self.deeds[deed_id] for _, deed_id in turns])
+        self.tell_times()
+        counted = [(hand, number) for hand, number in self.deeds if number <= clock[hand - 1]]
+        turns = sorted([(self.times[hand - 1][number], hand, number) for hand, number in counted])
+        return tuple([self.deeds[(hand, number)] for _, hand, number in turns])
 
     def enter_gone(self, hand, seen):
         """Take in that a deed of the base was there; these come in turn, ahead of all others."""
         number = seen[hand - 1] + 1
-        self.times[(hand, number)] = self.time_behind(seen)
+        self.times[hand - 1].append(self.time_behind(seen))
         self.seens[hand - 1].append(seen)
         self.clock = stepped(self.clock, hand, number)
         self.base = self.clock

@@ -8,7 +8,7 @@ def is_clock(value):
     if not isinstance(value, tuple) or len(value) != 4:
         return False
     for many in value:
-        if not isinstance(many, int) or many < 0 or isinstance(many, bool):
+        if not isinstance(many, int) or many < 0 or many is True or many is False:
             return False
     return True
 

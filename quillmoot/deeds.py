@@ -1,7 +1,7 @@
 """Acts and deeds, told by their forms alone."""
 
 from quillmoot.clocks import is_clock
-from quillmoot.forms import FORMS, is_hand, is_rank
+from quillmoot.forms import FORMS
 
 # for the word of each act the kinds of its parts, as forms names them
 PARTS = {
@@ -27,14 +27,12 @@ def is_act(value):
         return False
     word = value[0]
     # a list can not be looked up, so the word is known to be a string first
-    if not isinstance(word, str) or word not in PARTS:
+    kinds = PARTS.get(word, None) if isinstance(word, str) else None
+    if kinds is None or len(value) != len(kinds) + 1:
         return False
-    kinds = PARTS[word]
-    if len(value) != len(kinds) + 1:
-        return False
-    for kind, part in zip(kinds, value[1:]):
+    for at, kind in enumerate(kinds, start=1):
         form = FORMS[kind]
-        if not form(part):
+        if not form(value[at]):
             return False
     return True
 
@@ -44,9 +42,12 @@ def is_deed(value):
     if not isinstance(value, tuple) or len(value) != 4:
         return False
     hand, number, seen, act = value
-    if not is_hand(hand) or not is_rank(number) or not is_clock(seen):
+    if not isinstance(hand, int) or not isinstance(number, int) or hand is True or number is True:
         return False
-    return seen[hand - 1] == number - 1 and is_act(act)
+    if not 1 <= hand <= 4 or not is_clock(seen):
+        return False
+    # as the clock has no number below 0, this is from 1 on
+    return number == seen[hand - 1] + 1 and is_act(act)
 
 
 def id_of(deed):

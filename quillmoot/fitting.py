@@ -101,11 +101,7 @@ def fits_owner(book, deed):
     return deed[0] == OWNER
 
 
-def fits_always(book, deed):
-    """A say asks nothing."""
-    return True
-
-
+# a say asks nothing
 RULES = {
     "write": fits_write,
     "erase": fits_erase,
@@ -119,7 +115,6 @@ RULES = {
     "bar": fits_owner,
     "let": fits_owner,
     "settle": fits_owner,
-    "say": fits_always,
 }
 
 
@@ -128,7 +123,9 @@ def fits_book(book, deed):
     hand, _, seen, act = deed
     if not book.is_cut(seen):
         return False
-    if act[0] != "say" and last_ruling(book, hand, seen) == "bar":
+    if act[0] == "say":
+        return True
+    if hand in book.rulings and last_ruling(book, hand, seen) == "bar":
         return False
     rule = RULES[act[0]]
     return rule(book, deed)
@@ -141,8 +138,11 @@ def weight_of(deed):
 
 def book_of(value):
     """The book of any value, or None if it is no history."""
-    if not isinstance(value, (list, tuple)) or not all([is_deed(deed) for deed in value]):
+    if not isinstance(value, (list, tuple)):
         return None
+    for deed in value:
+        if not is_deed(deed):
+            return None
     book = Book()
     for deed in sorted(value, key=weight_of):
         # of the deeds told twice, or unlike ones of one id, the second one is never the next of its hand

@@ -7,19 +7,14 @@ LETTERS = "abcdefghijklmnopqrstuvwxyz"
 LETTERS_AND_BLANK = "abcdefghijklmnopqrstuvwxyz "
 
 
-def is_integer(value):
-    """Whether this is an integer; a truth value is none."""
-    return isinstance(value, int) and not isinstance(value, bool)
-
-
 def is_number(value):
-    """Whether this is an integer from 0 on."""
-    return isinstance(value, int) and value >= 0 and not isinstance(value, bool)
+    """Whether this is an integer from 0 on; a truth value is none."""
+    return isinstance(value, int) and value >= 0 and value is not True and value is not False
 
 
 def is_rank(value):
     """Whether this is an integer from 1 on, as deeds of a hand are numbered."""
-    return isinstance(value, int) and value >= 1 and not isinstance(value, bool)
+    return isinstance(value, int) and value >= 1 and value is not True
 
 
 def is_word(value):
@@ -34,12 +29,12 @@ def is_text(value):
 
 def is_hand(value):
     """Whether this is a hand, the owner among them."""
-    return isinstance(value, int) and 1 <= value <= 4 and not isinstance(value, bool)
+    return isinstance(value, int) and 1 <= value <= 4 and value is not True
 
 
 def is_guest(value):
     """Whether this is a hand other than the owner."""
-    return isinstance(value, int) and 2 <= value <= 4 and not isinstance(value, bool)
+    return isinstance(value, int) and 2 <= value <= 4
 
 
 def is_deed_id(value):
@@ -53,10 +48,13 @@ def is_block_id(value):
     """Whether this is a deed's id or that of the root."""
     if not isinstance(value, tuple) or len(value) != 2:
         return False
-    if value == (0, 0):
+    hand, number = value
+    if not isinstance(hand, int) or not isinstance(number, int) or hand is True or number is True:
+        return False
+    if hand == 0:
         # (False, False) is equal to the root's id and is none
-        return is_integer(value[0]) and is_integer(value[1])
-    return is_hand(value[0]) and is_rank(value[1])
+        return number == 0 and hand is not False and number is not False
+    return 1 <= hand <= 4 and number >= 1
 
 
 def is_sign_id(value):
@@ -64,7 +62,11 @@ def is_sign_id(value):
     if not isinstance(value, tuple) or len(value) != 3:
         return False
     hand, number, k = value
-    return is_hand(hand) and is_rank(number) and is_number(k)
+    if not isinstance(hand, int) or not isinstance(number, int) or not isinstance(k, int):
+        return False
+    if hand is True or number is True or k is True or k is False:
+        return False
+    return 1 <= hand <= 4 and number >= 1 and k >= 0
 
 
 def is_place(value):

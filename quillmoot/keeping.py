@@ -22,7 +22,7 @@ DROPPED = "dropped"
 def in_base(base, book):
     """The ids of the deeds of a base, in turn, whether the book still has them or not."""
     ids = [(hand, number + 1) for hand, many in zip(HANDS, base) for number in range(many)]
-    return [deed_id for _, deed_id in sorted([book.turn_of(deed_id) for deed_id in ids])]
+    return sorted(ids, key=book.turn_of)
 
 
 def seen_line(book, base):
@@ -78,12 +78,9 @@ def kept_lines(book, base):
     deeds = [deed for deed in counting_deeds(book, base) if deed[3][0] in ("mark", "note")]
     for rulings in book.rulings.values():
         deeds.extend([ruling for ruling in rulings if is_seen(base, ruling)])
-    turns = sorted([(book.turn_of(id_of(deed)), deed) for deed in deeds])
-    lines = []
-    for _, deed in turns:
-        # what it has seen is told already
-        lines.append(" ".join(["k", dotted(id_of(deed)), act_text(deed[3])]))
-    return lines
+    kept = {id_of(deed): act_text(deed[3]) for deed in deeds}
+    # what they have seen is told already
+    return [" ".join(["k", dotted(deed_id), kept[deed_id]]) for deed_id in sorted(kept, key=book.turn_of)]
 
 
 def rest_lines(book, base, kept):

@@ -4,15 +4,19 @@ from quillmoot.deeds import id_of
 from quillmoot.shown import shown_row, text_of
 
 
-def spans_of(book, block, deeds):
-    """The marks, of these deeds in turn, on a block: for each its id, its first and last place in the row, its act."""
-    places = {sign: at for at, sign in enumerate(book.trees.row(block))}
-    spans = []
-    for deed in deeds:
-        act = deed[3]
-        if act[0] == "mark" and act[1] in places:
-            spans.append((id_of(deed), places[act[1]], places[act[2]], act))
-    return spans
+def places_in(book, block):
+    """The place of each sign of a block in the row."""
+    return {sign: at for at, sign in enumerate(book.trees.row(block))}
+
+
+def spans_of(book, block, deeds, word):
+    """The marks or notes, of these deeds in turn, on a block: for each its id, its first and last place, its act."""
+    block_of = book.trees.block_of
+    found = [deed for deed in deeds if deed[3][0] == word and block_of[deed[3][1]] == block]
+    if not found:
+        return []
+    places = places_in(book, block)
+    return [(id_of(deed), places[deed[3][1]], places[deed[3][2]], deed[3]) for deed in found]
 
 
 def winners_at(spans, at):
@@ -33,10 +37,10 @@ def worths_at(spans, at):
 def runs_at(book, block, deeds):
     """The shown signs of a block, neighbours that these deeds mark alike put together."""
     shown = shown_row(book, block)
-    spans = spans_of(book, block, deeds)
+    spans = spans_of(book, block, deeds, "mark")
     if not spans:
         return ((text_of(book, shown), ()),) if shown else ()
-    places = {sign: at for at, sign in enumerate(book.trees.row(block))}
+    places = places_in(book, block)
     runs = []
     for sign in shown:
         marks = worths_at(spans, places[sign])
@@ -49,14 +53,14 @@ def runs_at(book, block, deeds):
 
 def notes_at(book, block, deeds):
     """The notes, of these deeds in turn, on a block: for each its id, the places in the text it is about, its text."""
-    places = {sign: at for at, sign in enumerate(book.trees.row(block))}
+    spans = spans_of(book, block, deeds, "note")
+    if not spans:
+        return ()
+    places = places_in(book, block)
     shown = [places[sign] for sign in shown_row(book, block)]
     notes = []
-    for deed in deeds:
-        act = deed[3]
-        if act[0] == "note" and act[1] in places:
-            first, last = places[act[1]], places[act[2]]
-            start = len([at for at in shown if at < first])
-            end = len([at for at in shown if at <= last])
-            notes.append((id_of(deed), start, end, act[3]))
+    for deed_id, first, last, act in spans:
+        start = len([at for at in shown if at < first])
+        end = len([at for at in shown if at <= last])
+        notes.append((deed_id, start, end, act[3]))
     return tuple(notes)

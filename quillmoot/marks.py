@@ -11,7 +11,7 @@ def spans_and_place(history, sign):
     book = checked(history)
     check_sign(book, sign)
     block = book.trees.block_of[sign]
-    spans = spans_of(book, block, counting_deeds(book, book.clock))
+    spans = spans_of(book, block, counting_deeds(book, book.clock), "mark")
     return spans, book.trees.row(block).index(sign)
 
 

@@ -14,8 +14,6 @@ def row_at(book, clock, block):
 
 def common_settle(book, clock):
     """The number of the last of the owner's deeds that each hand has in the past of a deed of its own in a part."""
-    if 0 in clock:
-        return 0
     return min([seen[0] for seen in book.last_seen(clock)])
 
 
@@ -58,10 +56,10 @@ def is_left(book, limit, common, sign):
 
 def let_go(book, block):
     """A dict that has the signs of a block that are let go as its keys."""
-    if 0 in book.clock:
-        return {}
     seens = book.last_seen(book.clock)
     limit = min([common_settle(book, seen) for seen in seens])
+    if limit == 0:
+        return {}
     common = met(met(seens[0], seens[1]), met(seens[2], seens[3]))
     row = book.trees.row(block)
     held = book.trees.above([sign for sign in row if not is_left(book, limit, common, sign)])

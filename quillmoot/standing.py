@@ -65,6 +65,9 @@ def reason_against(book, deed_id):
 
 def does_count(book, deed_id):
     """Whether this deed counts."""
+    # mostly its hand was never barred, and nobody undid it
+    if deed_id[0] not in book.rulings and deed_id not in book.turns_of:
+        return True
     return reason_against(book, deed_id) is None
 
 
