@@ -178,48 +178,55 @@ def random_going(dice, most):
 
 
 def random_stray(dice, most):
-    """A table at which some hands do things early that the owner's first settles do not know of; then all hear of all."""
+    """A table at which some hands do things early that the owner's first settle does not know of; then all hear of all.
+
+    So much is let go that stands behind the base.
+    """
     table = Table()
 
     def do(hand, *act):
         if len(table.deeds) < most and table.known(hand).fits(table.deed(hand, *act)):
             table.do(hand, *act)
 
-    def some_act(hand, most_signs):
-        act = random_act(dice, table.known(hand), hand, table.clocks[hand][hand - 1] + 1, most_signs)
-        if act is not None and act[0] not in ("bar", "let", "settle", "move", "drop", "block"):
-            do(hand, *act)
+    def write(hand, longest):
+        row = [None] + table.known(hand).open_row(ROOT) + [None]
+        at = dice.randrange(len(row) - 1)
+        do(hand, "write", ROOT, row[at], row[at + 1], random_text(dice, longest))
 
     def take_away(hand):
         row = table.known(hand).open_row(ROOT)
-        first = dice.randrange(len(row)) if row else 0
-        if row and dice.random() < 0.7:
-            do(hand, "erase", tuple(sorted(row[first:first + dice.randint(1, 8)])))
+        if row and dice.random() < 0.8:
+            do(hand, "erase", tuple(sorted(dice.sample(row, min(len(row), dice.randint(1, 8))))))
         elif table.clocks[hand][hand - 1]:
             do(hand, "undo", dice.randint(1, table.clocks[hand][hand - 1]))
 
-    for hand in dice.sample((1, 2, 3, 4), dice.randint(1, 3)):
-        do(hand, "write", ROOT, None, None, random_text(dice, 2))
-    table.meet()
-    strays = dice.sample((2, 3, 4), dice.randint(0, 2))
+    for hand in dice.sample((1, 2, 3), dice.randint(0, 2)):
+        write(hand, 2)
+    strays = dice.sample((2, 3, 4), dice.randint(1, 2))
     others = [hand for hand in (1, 2, 3, 4) if hand not in strays]
+    for hand in strays:
+        do(hand, *dice.choice((("say",), ("write", ROOT, None, None, random_text(dice, 2)))))
+    table.meet(*others)
     for _ in range(dice.randint(1, 4)):
-        some_act(dice.choice((1, 2, 3, 4)), 2)
+        write(dice.choice(others), 3)
+        if dice.random() < 0.7:
+            table.meet(*others)
+    row = table.known(others[-1]).open_row(ROOT)
+    if row and dice.random() < 0.3:
+        first = dice.randrange(len(row))
+        do(others[-1], "mark", row[first], row[dice.randrange(first, len(row))], dice.choice(NAMES), dice.choice(WORTHS))
+    for _ in range(dice.randint(1, 3)):
+        table.meet(*others)
+        take_away(dice.choice(others))
     table.meet(*others)
-    for hand in others:
-        take_away(hand)
-    table.meet(*others)
-    take_away(1)
     do(1, "settle")
-    for _ in range(4):
+    for _ in range(3):
         table.meet()
-        for hand in (1, 2, 3, 4):
-            if dice.random() < 0.1:
-                some_act(hand, 2)
-            elif hand == 1 and dice.random() < 0.2:
-                do(hand, "settle")
+        for hand in dice.sample((1, 2, 3, 4), 4):
+            if dice.random() < 0.08:
+                write(hand, 2)
             else:
-                do(hand, "say")
+                do(hand, "settle" if hand == 1 and dice.random() < 0.2 else "say")
     return table
 
 

@@ -403,7 +403,7 @@ class ByDice(Fits):
     def test_deeds_that_fit_and_others(self):
         dice = random.Random(9)
         told = {True: set(), False: set()}
-        for _ in range(120):
+        for _ in range(160):
             history = random_history(dice, dice.randint(3, 20))
             plain = Model(history)
             for _ in range(12):

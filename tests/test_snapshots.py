@@ -45,7 +45,7 @@ def most_of(history):
 def random_kept(dice, most=24):
     """A history by dice of which something may be let go."""
     maker = dice.choice((random_going, random_stray, random_stray, random_settling))
-    return tuple(maker(dice, dice.randint(6, most)).deeds)
+    return tuple(maker(dice, dice.randint(most // 2, most)).deeds)
 
 
 class Texts(unittest.TestCase):
